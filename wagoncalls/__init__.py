@@ -1,0 +1,1 @@
+"""Wagoncalls: wagons sent to calls in a town."""
