@@ -17,6 +17,9 @@ INTERFACE = {
     "ways": ["chart_of", "first_road", "way", "is_way", "minutes_of"],
     "chartchecks": ["lets_chart"],
     "near": ["reached", "lost", "bare"],
+    "posts": ["fewest_posts"],
+    "plans": ["least_plan"],
+    "trees": ["shows_posts", "is_plan", "covers_behind", "shows_moves"],
 }
 LIBRARY = {"heapq", "math", "itertools", "collections", "__future__"}
 

@@ -21,3 +21,23 @@ def bare(town, chart, posts):
 
 def _is_near(minutes, reach):
     return minutes is not None and minutes <= reach
+
+
+class Near:
+    """Which place reaches which by one chart, worked out once for the many questions of a search."""
+
+    def __init__(self, town, chart):
+        lost_places = lost(town, chart)
+        self.goals = [place for place in town[0] if place not in lost_places]
+        self.table = {place: {goal: True for goal in reached(town, chart, place)} for place in town[0]}
+
+    def reaches(self, post, place):
+        """Whether a place is reached from a post."""
+        return place in self.table[post]
+
+    def lacking(self, posts):
+        """The places that some stand reaches, but none of the posts: where there are none, the posts cover."""
+        found = {}
+        for post in posts:
+            found.update(self.table[post])
+        return [place for place in self.goals if place not in found]
