@@ -20,6 +20,10 @@ INTERFACE = {
     "posts": ["fewest_posts"],
     "plans": ["least_plan"],
     "trees": ["shows_posts", "is_plan", "covers_behind", "shows_moves"],
+    "wagons": ["far", "waiting", "may_be_sent", "chosen"],
+    "sending": ["cut_off", "sendings"],
+    "tellings": ["is_telling", "in_order"],
+    "logs": ["telling_text", "telling_by", "log_text", "log_by", "together"],
 }
 LIBRARY = {"heapq", "math", "itertools", "collections", "__future__"}
 

@@ -174,6 +174,11 @@ class LeastPlanTests(Case):
         rows = [("u", "a", ("a",)), ("v", "a", ("a", "b")), ("w", "a", ("a", "b", "c"))]
         self.same(self.least(ALONE, rows), [("v", "b"), ("w", "c")])
 
+    def test_a_place_without_an_option_makes_the_tree_small(self):
+        town = (TEN_PLACES, (), TEN_PLACES[:5], 0)
+        rows = [(f"w{at}", "p9", TEN_PLACES[:4]) for at in range(5)]
+        self.same(least_plan(town, chart_of(town, ()), rows), (None, ("bare", "p4")))
+
     def test_five_wagons_all_moved(self):
         rows = [(f"w{at}", TEN_PLACES[5 + at], TEN_PLACES[:5]) for at in range(5)]
         self.same(self.least((TEN_PLACES, (), TEN_PLACES[:5], 0), rows), [(f"w{at}", f"p{at}") for at in range(5)])

@@ -67,7 +67,7 @@ def _are_branches(thing, options):
     """Whether a thing is a tuple of branches, one for each option, each the option's parts and a tree."""
     if not isinstance(thing, tuple) or len(thing) != len(options):
         return False
-    if not all(isinstance(branch, tuple) and branch for branch in thing):
+    if not all(isinstance(branch, tuple) for branch in thing):
         return False
     heads = [branch[:-1] for branch in thing]
     return all(option in heads for option in options)
