@@ -24,6 +24,13 @@ INTERFACE = {
     "sending": ["cut_off", "sendings"],
     "tellings": ["is_telling", "in_order"],
     "logs": ["telling_text", "telling_by", "log_text", "log_by", "together"],
+    "moments": ["begun", "comes", "work", "due_at"],
+    "stories": ["story_of"],
+    "days": ["Day"],
+}
+METHODS = {
+    ("days", "Day"): ["__init__", "town", "tell", "go_to", "amend", "strike", "log", "now", "story", "state", "state_at",
+                      "wagons", "served", "due"],
 }
 LIBRARY = {"heapq", "math", "itertools", "collections", "__future__"}
 
@@ -44,6 +51,14 @@ class LayoutTests(unittest.TestCase):
             found = [node.name for node in tree.body if isinstance(node, (ast.FunctionDef, ast.ClassDef))]
             for name in names:
                 self.assertEqual(found.count(name), 1, f"{module}.{name}")
+
+    def test_methods_stand_in_their_class_itself(self):
+        for (module, name), methods in METHODS.items():
+            bodies = [node.body for node in ast.parse(text_of(module + ".py")).body
+                      if isinstance(node, ast.ClassDef) and node.name == name]
+            found = [node.name for node in bodies[0] if isinstance(node, ast.FunctionDef)]
+            for method in methods:
+                self.assertEqual(found.count(method), 1, f"{module}.{name}.{method}")
 
     def test_files(self):
         self.assertIn("__init__.py", files())

@@ -1,6 +1,6 @@
 """Which wagons are cut off from their calls, and which are sent to calls that wait."""
 
-from wagoncalls.wagons import FREE, call_named, chosen, far, freed, waiting, with_task
+from wagoncalls.wagons import FREE, chosen, far, freed, named, waiting, with_task
 
 
 def cut_off(town, chart, wagons, calls):
@@ -35,7 +35,7 @@ def sendings(town, chart, now, wagons, calls):
 def _is_cut_off(town, chart, wagon, calls):
     if wagon[5][0] != "to":
         return False
-    place = call_named(calls, wagon[5][1])[1]
+    place = named(calls, wagon[5][1])[1]
     # Any moment does: only whether there is a way is asked.
     return far(town, chart, 0, wagon, place) is None
 
@@ -50,7 +50,5 @@ def _next_call(wagons, calls, looked_at):
 
 def _call_of(wagons, name):
     """The call of the wagon of a name, None of a free one."""
-    for wagon in wagons:
-        if wagon[0] == name and wagon[5] != FREE:
-            return wagon[5][1]
-    return None
+    task = named(wagons, name)[5]
+    return None if task == FREE else task[1]

@@ -25,12 +25,12 @@ def may_be_sent(calls, wagon, name):
     task = wagon[5]
     if task == FREE:
         return True
-    return task[0] == "to" and call_named(calls, task[1])[2] > call_named(calls, name)[2]
+    return task[0] == "to" and named(calls, task[1])[2] > named(calls, name)[2]
 
 
 def chosen(town, chart, now, wagons, calls, name):
     """The name of the wagon that is chosen to the call of a name, None where there is none."""
-    place = call_named(calls, name)[1]
+    place = named(calls, name)[1]
     found = []
     for wagon in wagons:
         if may_be_sent(calls, wagon, name):
@@ -40,11 +40,11 @@ def chosen(town, chart, now, wagons, calls, name):
     return min(found)[2] if found else None
 
 
-def call_named(calls, name):
-    """The call of a name, None where there is none."""
-    for call in calls:
-        if call[0] == name:
-            return call
+def named(rows, name):
+    """The call, or the wagon, of a name; None where there is none."""
+    for row in rows:
+        if row[0] == name:
+            return row
     return None
 
 
@@ -57,3 +57,9 @@ def freed(wagon):
 def with_task(wagon, task):
     """The wagon with another task."""
     return wagon[:5] + (task,)
+
+
+def with_post(wagon, post):
+    """The wagon with another post."""
+    name, home, _, place, moment, task = wagon
+    return name, home, post, place, moment, task
