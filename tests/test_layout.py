@@ -27,10 +27,15 @@ INTERFACE = {
     "moments": ["begun", "comes", "work", "due_at"],
     "stories": ["story_of"],
     "days": ["Day"],
+    "sheets": ["sheets_of"],
+    "tellers": ["story_by"],
+    "stays": ["stays_of", "waits_of"],
+    "desk": ["Desk"],
 }
 METHODS = {
     ("days", "Day"): ["__init__", "town", "tell", "go_to", "amend", "strike", "log", "now", "story", "state", "state_at",
                       "wagons", "served", "due"],
+    ("desk", "Desk"): ["__init__", "say"],
 }
 LIBRARY = {"heapq", "math", "itertools", "collections", "__future__"}
 

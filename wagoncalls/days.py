@@ -6,7 +6,7 @@ from wagoncalls.moments import due_at
 from wagoncalls.papers import SoughtPapers
 from wagoncalls.tellings import is_telling
 from wagoncalls.towns import is_town
-from wagoncalls.wagons import FREE, named
+from wagoncalls.wagons import named, served_by
 from wagoncalls.walks import events_of, state_behind, works_behind
 from wagoncalls.words import is_moment
 
@@ -17,6 +17,7 @@ class Day:
     """The day of a town."""
 
     # The works are kept, so that a question works nothing again; they are always those of the whole log until now.
+    # The log and the works are tuples: what is kept of them elsewhere stays as it is.
 
     def __init__(self, town):
         if not is_town(town):
@@ -92,15 +93,20 @@ class Day:
     def served(self, name):
         """How a call stands: a tuple of `waits`, `to` or `at`, and the wagon's name or None."""
         self._let_call(name)
-        for wagon in self.state()[2]:
-            if wagon[5] != FREE and wagon[5][1] == name:
-                return wagon[5][0], wagon[0]
-        return "waits", None
+        return served_by(self.state()[2], name)
 
     def due(self, name):
         """The moment at which a call is due, None where no wagon is to it."""
         self._let_call(name)
         return due_at(self._town, self.state(), name)
+
+    def kept(self):
+        """What the day is now, for put_back."""
+        return self._log, self._now, self._works
+
+    def put_back(self, kept):
+        """The day is again what it was when this was kept."""
+        self._log, self._now, self._works = kept
 
     def _put_in(self, moment, telling):
         """Whether the log hasn't a tuple yet; it has it then."""

@@ -33,11 +33,20 @@ def log_by(town, text):
     rows = text.split("\n") if text else []
     log = []
     for at, row in enumerate(rows):
-        told = _row_by(town, row)
+        told = log_row_by(town, row)
         if told is None:
             raise NoText(at)
         log.append(told)
     return log_in_order(log)
+
+
+def log_row_by(town, row):
+    """The tuple (moment, telling) that a row is, None of any other text."""
+    moment, _, telling = row.partition(" ")
+    try:
+        return moment_by(moment), telling_by(town, telling)
+    except NoText:
+        return None
 
 
 def together(log, other):
@@ -53,15 +62,6 @@ def log_in_order(log):
 def _as_it_goes(row):
     moment, telling = row
     return moment, as_it_goes(telling)
-
-
-def _row_by(town, row):
-    """The tuple (moment, telling) that a row is, None of any other row."""
-    moment, _, telling = row.partition(" ")
-    try:
-        return moment_by(moment), telling_by(town, telling)
-    except NoText:
-        return None
 
 
 def _parts_by(town, words):

@@ -40,6 +40,14 @@ def chosen(town, chart, now, wagons, calls, name):
     return min(found)[2] if found else None
 
 
+def served_by(wagons, name):
+    """How a call stands: a tuple of `waits`, `to` or `at`, and its wagon's name, None of one that waits."""
+    for wagon in wagons:
+        if wagon[5] != FREE and wagon[5][1] == name:
+            return wagon[5][0], wagon[0]
+    return "waits", None
+
+
 def named(rows, name):
     """The call, or the wagon, of a name; None where there is none."""
     for row in rows:
